@@ -1,0 +1,1 @@
+"""Stormpost: post over bad roads."""
