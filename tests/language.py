@@ -88,6 +88,7 @@ def source_findings(package, module, text, modules):
     for node in ast.walk(tree):
         found.extend(node_findings(node))
     found.extend(name_findings(tree))
+    found.extend(shadow_findings(tree))
     found.extend(method_findings(tree, modules))
     return [f"{rule} {module}.py:{line} {what}" for rule, line, what in found]
 
@@ -278,8 +279,6 @@ def name_findings(tree):
             yield "L15", 0, f"{name} is a name of Python's own, or one that is not used"
     for name in sorted(values & BANNED_VALUES):
         yield "L26", 0, f"{name} is no name for a value"
-    for name in sorted(values & methods):
-        yield "L18", 0, f"{name} is a method and a value"
     for node in ast.walk(tree):
         if isinstance(node, ast.Name) and node.id in PYTHONS_OWN and node.id not in OWN_NAMES:
             yield "L8", node.lineno, f"{node.id} is a name of Python's own that is not used"
@@ -287,10 +286,26 @@ def name_findings(tree):
             yield "L17", node.lineno, f"{node.attr} is not used"
 
 
+def shadow_findings(tree):
+    """Parameters and locals that are called like a class or an import of the file."""
+    taken = {node.name for node in tree.body if isinstance(node, ast.ClassDef)}
+    for node in tree.body:
+        if isinstance(node, ast.ImportFrom):
+            taken |= {alias.asname or alias.name for alias in node.names}
+    for node in ast.walk(tree):
+        local = isinstance(node, ast.Name) and isinstance(node.ctx, ast.Store) and node.id
+        local = local or isinstance(node, ast.arg) and node.arg
+        if local in taken:
+            yield "L15", node.lineno, f"{local} is called like a class or an import"
+
+
 def method_findings(tree, modules):
     own = set(DUNDERS)
     for text in modules.values():
         own |= own_things(ast.parse(text))[0]
+    # A method of any class of the package is no value of an object anywhere in it.
+    for name in sorted(own & own_things(tree)[1]):
+        yield "L18", 0, f"{name} is a method and a value"
     for node in ast.walk(tree):
         if isinstance(node, ast.Call) and isinstance(node.func, ast.Attribute):
             if node.func.attr not in METHODS | own:

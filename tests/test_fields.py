@@ -2,6 +2,7 @@ import copy
 import itertools
 import unittest
 
+from reckoning import stream_of_signs, taken
 from stormpost.errors import BadSign
 from stormpost.fields import exponent, inverse, power, solved
 
@@ -12,16 +13,6 @@ SIXTY_FIGURES = 987654321012345678909876543210123456789098765432101234567890
 
 def sides_of(rows, unknowns):
     return [sum(sign * unknown for sign, unknown in zip(row, unknowns)) % 97 for row in rows]
-
-
-def stream_of_signs(seed):
-    while True:
-        seed = (seed * 1103515245 + 12345) % 2 ** 31
-        yield (seed >> 8) % 97
-
-
-def taken(signs, many):
-    return list(itertools.islice(signs, many))
 
 
 def rows_with_one_answer(n, signs):

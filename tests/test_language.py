@@ -8,7 +8,12 @@ PACKAGE = Path(__file__).resolve().parent.parent / "stormpost"
 
 
 def rules_broken(text, module="signs"):
-    modules = {"errors": "class BadSign(ValueError):\n    pass\n", "cells": "PLACES = 24\n", module: text}
+    modules = {
+        "errors": "class BadSign(ValueError):\n    pass\n",
+        "cells": "PLACES = 24\n",
+        "air": "class Air:\n    def flying(self):\n        return 0\n",
+        module: text,
+    }
     return sorted({row.split()[0] for row in language.source_findings("stormpost", module, text, modules)})
 
 
@@ -51,10 +56,13 @@ class FindingsTest(unittest.TestCase):
             ("L15", "X = 1\nX = 2\n"),
             ("L15", "X = [[1]]\n"),
             ("L15", "def f(id):\n    return id\n"),
+            ("L15", "class C:\n    pass\n\n\ndef f(C):\n    return C\n"),
+            ("L15", "from stormpost.errors import BadSign\n\n\ndef f():\n    BadSign = 1\n    return BadSign\n"),
             ("L16", "from stormpost.errors import BadCell\n"),
             ("L16", "from stormpost.cells import PLACES\n"),
             ("L17", "# its type\n"),
             ("L18", "class C:\n    def a(self):\n        self.a = 1\n"),
+            ("L18", "class C:\n    def a(self):\n        self.flying = 1\n"),
             ("L19", "def f(a):\n    try:\n        return a\n    except Exception:\n        return 1\n"),
             ("L20", "def f(a, b):\n    return a is b\n"),
             ("L21", "def f(a: int):\n    return a\n"),
