@@ -72,3 +72,13 @@ def bad_lists(many):
             signs = [3] * many
             signs[place] = number
             yield signs
+
+
+def any_fate(signs, late):
+    return tuple(
+        (
+            1 + next(signs) % late,
+            tuple((place, 1 + next(signs) % 96) for place in picked(signs, next(signs) % 5, 24)),
+        )
+        for i in range(next(signs) % 4)
+    )

@@ -1,7 +1,7 @@
 import itertools
 import unittest
 
-from reckoning import FAR, NO_SIGNS, bad_lists, picked, stream_of_signs, taken, with_turns
+from reckoning import FAR, NO_SIGNS, any_fate, bad_lists, picked, stream_of_signs, taken, with_turns
 from stormpost.air import Air
 from stormpost.cells import sealed
 from stormpost.errors import BadCell, BadFate, BadMeasure
@@ -17,16 +17,6 @@ def cell_of(number):
 
 def numbers(cells):
     return [cell[0] for cell in cells]
-
-
-def any_fate(signs, late):
-    return tuple(
-        (
-            1 + next(signs) % late,
-            tuple((place, 1 + next(signs) % 96) for place in picked(signs, next(signs) % 5, 24)),
-        )
-        for i in range(next(signs) % 4)
-    )
 
 
 class ComeTest(unittest.TestCase):
