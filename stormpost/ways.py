@@ -1,5 +1,7 @@
 """Ways over the wires that stand in a map, with heights that show that none is shorter, or sides that show none."""
 
+from stormpost.letters import is_house
+
 
 def lengths_of(chart):
     """The wires that stand in the map, both ways: a dict from (house, house) to the length."""
@@ -87,8 +89,13 @@ def way_holds(lengths, one, other, way, heights):
     return total is not None and (one, total) in heights
 
 
+def are_rising_houses(numbers):
+    # The map can't tell what is a house: a side may hold some that it doesn't know.
+    return list(numbers) == sorted(set(numbers)) and all([is_house(number) for number in numbers])
+
+
 def side_holds(lengths, one, other, side):
-    if list(side) != sorted(set(side)) or one not in side or other in side:
+    if not are_rising_houses(side) or one not in side or other in side:
         return False
     return not any([begin in side and end not in side for begin, end in lengths])
 

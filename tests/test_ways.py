@@ -82,6 +82,8 @@ class Reckoned:
         )
 
     def is_right_side(self, one, other, side):
+        if any(house not in range(32) for house in side):
+            return False
         if any(low >= high for low, high in zip(side, side[1:])) or one not in side or other in side:
             return False
         return not any(begin in side and end not in side for begin, end in self.lengths)
@@ -308,6 +310,22 @@ class WayJudgedTest(unittest.TestCase):
             for many in range(7):
                 for side in itertools.combinations((0, 1, 2, 3, 4, 5, 6, 9), many):
                     self.judged(False, one, other, ("side", side))
+
+    def test_a_number_that_is_no_house_is_in_no_side(self):
+        for side in ((4,), (4, 5, 6), (0, 1, 2, 3, 4), (0, 1, 2, 3, 4, 31)):
+            self.judged(True, 4, 9, ("side", side))
+            for number in (-FAR, -32, -2, -1, 32, 33, 96, 97, 100, FAR):
+                self.judged(False, 4, 9, ("side", tuple(sorted(side + (number,)))))
+        for chart in (Map(), self.chart):
+            self.assertIs(way_judged(chart, 8, 9, ("side", (-1, 8, 32))), False)
+            self.assertIs(way_judged(chart, 8, 9, ("side", (8,) + tuple(range(32, 40)))), False)
+
+    def test_any_house_may_be_in_a_side(self):
+        for house in range(32):
+            if house != 9:
+                self.assertIs(way_judged(Map(), house, 9, ("side", (house,))), True)
+                self.assertIs(way_judged(Map(), 8, 9, ("side", tuple(sorted({8, house})))), True)
+        self.judged(True, 4, 9, ("side", tuple(house for house in range(32) if house != 9)))
 
     def test_never_both(self):
         for one, other in itertools.product((0, 1, 3, 4, 5, 6, 9), repeat=2):
